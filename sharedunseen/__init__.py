@@ -1,0 +1,1 @@
+"""Sharedunseen: stores that several offices change while the line is cut."""

@@ -1,0 +1,45 @@
+"""Checks of arguments that several chapters share."""
+
+from sharedunseen.errors import InvalidNumber, InvalidRun
+from sharedunseen.kinds import is_below, is_lot
+from sharedunseen.stores import operations_of
+
+
+def check_office(store, office):
+    """Raises unless any value is the number of an office."""
+    if not is_below(office, len(store.offices)):
+        raise InvalidNumber("office")
+
+
+def check_number(value, end, word):
+    """Raises unless any value, the argument called `word`, is a number below `end`."""
+    if not is_below(value, end):
+        raise InvalidNumber(word)
+
+
+def check_name(store, name):
+    """Raises unless any value is the name of an operation."""
+    if store.operation(name) is None:
+        raise InvalidRun(0)
+
+
+def chosen_operations(store, offices):
+    """The operations of a lot of offices, or of all for None, in the order of their names."""
+    if offices is None:
+        return sorted(operations_of(store))
+    if not is_lot(offices, len(store.offices)):
+        raise InvalidNumber("offices")
+    return sorted([operation for office in offices for operation in store.offices[office]])
+
+
+def table_of(operations):
+    """A dict of operations by their names."""
+    return {operation[0]: operation for operation in operations}
+
+
+def first_unknown(items, table):
+    """The first index in a tuple whose item is no key of a dict of names, or None."""
+    for at, item in enumerate(items):
+        if not isinstance(item, str) or item not in table:
+            return at
+    return None

@@ -1,0 +1,63 @@
+"""Partings of the states, written as views."""
+
+from sharedunseen.kinds import is_below
+
+
+def numbered(things):
+    """The view in which places of a list with equal things have equal numbers."""
+    numbers = {}
+    for thing in things:
+        numbers.setdefault(thing, len(numbers))
+    return tuple([numbers[thing] for thing in things])
+
+
+def is_view(value, size):
+    """Whether any value is a view of so many states."""
+    if not isinstance(value, tuple) or len(value) != size:
+        return False
+    fresh = 0
+    for item in value:
+        if not is_below(item, fresh + 1):
+            return False
+        fresh = max(fresh, item + 1)
+    return True
+
+
+def is_kept(ends, view):
+    """Whether an operation with these ends keeps a view."""
+    return all([view[end] == number for end, number in zip(ends, view)])
+
+
+def is_carried_by(things, view):
+    """Whether states with equal numbers in a view have equal things in a list."""
+    told = {}
+    for number, thing in zip(view, things):
+        if told.setdefault(number, thing) != thing:
+            return False
+    return True
+
+
+def leader_of(leaders, state):
+    """The leader of the part of a state; the states on the way are led to it straight."""
+    leader = state
+    while leaders[leader] != leader:
+        leader = leaders[leader]
+    while leaders[state] != leader:
+        further = leaders[state]
+        leaders[state] = leader
+        state = further
+    return leader
+
+
+def joined_view(size, pairs, carried):
+    """The finest view in which pairs have equal numbers and that operations with some ends carry."""
+    leaders = list(range(size))
+    todo = list(pairs)
+    while todo:
+        one, other = todo.pop()
+        first = leader_of(leaders, one)
+        second = leader_of(leaders, other)
+        if first != second:
+            leaders[second] = first
+            todo.extend([(ends[first], ends[second]) for ends in carried])
+    return numbered([leader_of(leaders, state) for state in range(size)])

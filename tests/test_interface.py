@@ -1,0 +1,83 @@
+"""The interface: each name stands in its file, with its parameters and defaults."""
+
+import ast
+import unittest
+
+from tests.language import PACKAGE
+
+INTERFACE = {
+    "errors": """StoreError() InvalidStore(at) InvalidText(at) InvalidRun(at) InvalidState() InvalidView(at)
+        InvalidTable(at) InvalidNumber(word) Refused(word)""",
+    "clashes": """all_clashes(store) clashing_pairs(store) clash_states(store) clash_of(store,one,other,state)
+        is_clash(store,value) clash_run(store,clash) ends_hold(store)""",
+    "groups": """check_table(value) times(table,one,two) inverse(table,one) power(table,one,many) order_of(table,one)
+        generated(table,shares) centre(table) is_commutative(table) opposite(table) is_matching(table,goal,value)
+        matching(table,goal)""",
+    "matches": "matches(one,other,*,most=200)",
+    "runs": """check_state(store,value) check_run(store,run,*,office=None) own_run(store,run,office) own_runs(store,run)
+        after(store,state,run) passed(store,state,run) answers_of(store,state,run) run_ends(store,run)
+        reachable(store,state,offices=None) distances(store,state,offices=None)
+        shortest_run(store,state,goal,offices=None) count_runs(store,state,goal,length,offices=None)""",
+    "stores": "Store(size,offices) renamed(store,names) renumbered(store,order)",
+    "backs": "amend_run(store,office,state,done,wished) back_times(store,name) common_back(store,name,states)",
+    "barring": """Barred(prices,bars,cost,paper) without(store,bars) least_bars(store,*,prices=None)
+        check_barred(store,value) all_least_bars(store,*,prices=None,most=20) bar_words(store,*,prices=None)
+        sparing_bars(store,office,*,prices=None)""",
+    "beside": "side_by_side(one,other) part_of(store,lot)",
+    "cards": "group_store(table,lefts,rights) pack(many)",
+    "edits": "extends(one,other)",
+    "homes": """joint_homes(store,offices) homes(store,office) home_order(store,offices)
+        lasting_states(store,offices=None) is_reversible(store) closed_lot(store) meeting(store,one,other,offices)
+        crossing(store,state,goal,offices) need_unseen_reversible(store)""",
+    "notices": """cut_answers(store,states,run) copies(store,states,run) noticed(store,state,run)
+        nearest_clash(store,state) soonest(store,state) soonest_run(store,state)""",
+    "steady": """steady_view(store,office) is_steady(store,office,value) misled(store,office)
+        answers_hold(store,*,office=None)""",
+    "texts": "read_store(text) show_store(store)",
+    "weavings": """check_runs(runs) count_weavings(runs) weaving_at(runs,number) place_of_weaving(runs,run)
+        count_exchanges(runs,one,other) exchanges(runs,one,other) sorted_run(store,run,order=None)
+        ends_of_weavings(store,state,runs) weaving_to(store,state,runs,goal)
+        answers_of_weavings(store,state,runs,office,place)""",
+}
+
+METHODS = {"Store": ["__eq__()", "names()", "office_of(name)", "operation(name)"]}
+
+
+def parameters(node, skip=0):
+    """The parameters of a function as they are written."""
+    spec = node.args
+    plain = [arg.arg for arg in spec.args[skip:]]
+    for k, value in enumerate(reversed(spec.defaults), 1):
+        plain[-k] += "=" + ast.unparse(value)
+    if spec.kwonlyargs:
+        plain.append("*")
+    plain += [arg.arg + "=" + ast.unparse(value) for arg, value in zip(spec.kwonlyargs, spec.kw_defaults)]
+    return ",".join(plain)
+
+
+class InterfaceTest(unittest.TestCase):
+
+    def test_names(self):
+        for module, words in INTERFACE.items():
+            told = {}
+            for node in ast.parse((PACKAGE / (module + ".py")).read_text()).body:
+                if isinstance(node, ast.FunctionDef):
+                    told[node.name] = parameters(node)
+                if isinstance(node, ast.ClassDef):
+                    methods = {inner.name: parameters(inner, 1) for inner in node.body if isinstance(inner, ast.FunctionDef)}
+                    told[node.name] = methods.get("__init__", "")
+                    for method in METHODS.get(node.name, []):
+                        name, _, rest = method.rstrip(")").partition("(")
+                        self.assertIn(name, methods)
+                        self.assertIn(rest, methods[name])
+            for word in words.split():
+                name, _, rest = word[:-1].partition("(")
+                self.assertIn(name, told, module)
+                self.assertEqual(told[name], rest, name)
+
+    def test_package(self):
+        self.assertTrue((PACKAGE / "__init__.py").exists())
+
+
+if __name__ == "__main__":
+    unittest.main()
