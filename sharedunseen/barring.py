@@ -7,7 +7,7 @@ from sharedunseen.errors import InvalidNumber, InvalidRun, Refused
 from sharedunseen.kinds import is_below, is_word
 from sharedunseen.stores import MOST_OPERATIONS, Store, operations_of
 
-MOST_PRICE = 10 ** 9
+MOST_PRICE = 1_000_000_000
 MOST_LOTS = 1000
 
 

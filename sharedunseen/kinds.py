@@ -1,7 +1,7 @@
 """The kinds of values that the document asks for, asked of any values."""
 
 MOST_LETTERS = 5
-MOST_ANSWER = 10 ** 12
+MOST_ANSWER = 1_000_000_000_000
 
 
 def is_integer(value):
