@@ -233,6 +233,14 @@ class LeastBarsTest(unittest.TestCase):
         self.assertEqual(len(lots), 64)
         self.assertEqual(list(lots), sorted(lots))
         self.assertEqual(error_of(self, Refused, barring.all_least_bars, store, most=63).word, "wide")
+        # Two strings of pairs have 3 * 7 lots, as many as 4 * 5 and one more.
+        strings = [(0, 10), (0, 11), (1, 11), (2, 12), (2, 13), (3, 13), (3, 14), (4, 14), (4, 15), (5, 15), (5, 16), (6, 16)]
+        strings += [(6, 17), (7, 17)]
+        self.assertEqual(len(barring.all_least_bars(store_of_pairs((10, 10), strings), most=21)), 21)
+        error = error_of(self, Refused, barring.all_least_bars, store_of_pairs((10, 10), strings))
+        self.assertEqual(error.word, "wide")
+        strings = [(0, 10), (0, 11), (1, 11), (1, 12), (2, 12), (3, 13), (3, 14), (4, 14), (4, 15), (5, 15), (5, 16), (6, 16)]
+        self.assertEqual(len(barring.all_least_bars(store_of_pairs((10, 10), strings))), 20)
         wide = store_of_pairs((3, 3, 3), [(k, k + 3) for k in range(6)])
         self.assertEqual(len(barring.all_least_bars(wide, most=1000)), 1)
 
@@ -329,6 +337,12 @@ class CheckBarredTest(unittest.TestCase):
                                ({("a", "c"): 2, ("b", "d"): 2, ("a", "d"): -1}, False), ({("a", "c"): 2.0, ("b", "d"): 2}, False),
                                ({**good, ("a", "d"): Touchy()}, False), ({**good, ("a", "d", "x"): 0}, False)):
             self.assertIs(self.check(PATH, prices, ("a", "b"), 2, ("loads", loads)), verdict, loads)
+        alike = {(Alike("a"), "c"): 2, ("b", "d"): 2}
+        self.assertIs(self.check(PATH, prices, ("a", "b"), 2, ("loads", alike)), False)
+        alike = {Alike(("a", "c")): 2, ("b", "d"): 2}
+        self.assertIs(self.check(PATH, prices, ("a", "b"), 2, ("loads", alike)), False)
+        for loads in odd_things() + [True, 0, 4, "", (), tuple(good.items()), list(good.items())]:
+            self.assertIs(self.check(PATH, prices, ("a", "b"), 2, ("loads", loads)), False)
         for word in ("load", "split", None, Alike("loads"), Touchy(), b"loads", ("loads",)):
             self.assertIs(self.check(PATH, prices, ("a", "b"), 2, (word, good)), False)
         self.assertIs(self.check(PATH, prices, ("a", "b"), 2, ["loads", good]), False)
@@ -344,7 +358,9 @@ class CheckBarredTest(unittest.TestCase):
                                (("split", None, held, kept), False), (("split", Alike("a"), held, kept), False),
                                (("split", "a", ("loads", {("a", "b"): 1}), kept), False),
                                (("split", "a", ("split", "a", held, held), kept), False),
+                               (("split", "a", ("split", "a", held, kept), kept), False),
                                (("split", "a", held, ("split", "b", kept, kept)), False),
+                               (("split", "a", held, ("split", "c", kept, kept)), False),
                                (("split", "a", held, ("split", "a", kept, kept)), False),
                                (("split", "a", ("split", "b", kept, kept), kept), True),
                                (("split", "a", held, None), False), (("split", "a", None, kept), False),
@@ -363,6 +379,8 @@ class CheckBarredTest(unittest.TestCase):
         for k in range(2000):
             shared = ("split", "abc"[k % 3], shared, shared)
         self.assertIs(self.check(TRIANGLE, {name: 1 for name in "abc"}, ("a", "b"), 2, shared), False)
+        touchy = ("split", Touchy(), ("split", "a", chain, chain), ("split", "a", chain, chain))
+        self.assertIs(self.check(TRIANGLE, {name: 1 for name in "abc"}, ("a", "b"), 2, touchy), False)
         nested = ()
         for k in range(20000):
             nested = (nested, nested)

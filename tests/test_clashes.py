@@ -87,6 +87,10 @@ class ClashesTest(unittest.TestCase):
             for part in [None, True, 1.0, [], {}, (), "x", 3, -1, Odd(), Alike(), b"a", ("a",)]:
                 self.assertIs(clashes.is_clash(STORE, good[:at] + (part,) + good[at + 1:]), False)
         self.assertIs(clashes.is_clash(STORE, ("a", "b", False, "ends")), False)
+        store = Store(2, ((("a", (1, 0), (0, 0)),), (("b", (0, 1), (0, 1)),)))
+        self.assertEqual(clashes.clash_of(store, "a", "b", 0), ("a", "b", 0, "answers"))
+        for kind in ("end", "", "answer", "Answers", None, Alike("answers"), b"answers", 1):
+            self.assertIs(clashes.is_clash(store, ("a", "b", 0, kind)), False)
 
     def test_clash_run(self):
         for store in many_stores(34, 150):

@@ -103,6 +103,7 @@ class CheckTableTest(unittest.TestCase):
                 self.assertEqual(self.fault(table), at)
                 self.assertEqual(self.fault(table[:3] + (None,)), at)
         self.assertEqual(self.fault(((0, 2, 1), (1, 2, 0), (2, 0, 1))), 0)
+        self.assertEqual(self.fault(((0, 2, 1), None, (2, 0, 1))), 0)
 
     def test_last_rule(self):
         rng = random.Random(4)

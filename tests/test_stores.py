@@ -93,6 +93,8 @@ class StoreTest(unittest.TestCase):
         for other in (Store(3, ((), (UP,))), Store(3, ((UP,), (), ())), Store(1, ((), ())), None, 3, Odd(), (3, ((UP,), ()))):
             self.assertFalse(store == other)
             self.assertTrue(store != other)
+        self.assertFalse(Store(1, ((), ())) == Store(2, ((), ())))
+        self.assertFalse(Store(1, ((), ())) == Store(1, ((), (), ())))
         twin = Odd()
         twin.size, twin.offices = store.size, store.offices
         self.assertFalse(store == twin)
