@@ -62,7 +62,7 @@ def leaves(store, lot):
 
 
 def part_of_operation(operation, lot, places):
-    """The operation on the states of a lot, which have these places."""
+    """The operation on the states of a lot, which have these places; it stays where it would leave the lot."""
     name, ends, answers = operation
-    new_ends = tuple([places[ends[state]] for state in lot])
+    new_ends = tuple([places.get(ends[state], places[state]) for state in lot])
     return (name, new_ends, tuple([answers[state] for state in lot]))

@@ -17,6 +17,12 @@ def check_number(value, end, word):
         raise InvalidNumber(word)
 
 
+def check_lot(store, offices, word):
+    """Raises unless any value, the argument called `word`, is a lot of numbers of offices."""
+    if not is_lot(offices, len(store.offices)):
+        raise InvalidNumber(word)
+
+
 def check_name(store, name):
     """Raises unless any value is the name of an operation."""
     if store.operation(name) is None:
@@ -27,8 +33,7 @@ def chosen_operations(store, offices):
     """The operations of a lot of offices, or of all for None, in the order of their names."""
     if offices is None:
         return sorted(operations_of(store))
-    if not is_lot(offices, len(store.offices)):
-        raise InvalidNumber("offices")
+    check_lot(store, offices, "offices")
     return sorted([operation for office in offices for operation in store.offices[office]])
 
 

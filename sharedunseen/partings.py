@@ -11,16 +11,24 @@ def numbered(things):
     return tuple([numbers[thing] for thing in things])
 
 
+def view_fault(value, size):
+    """The index of the first wrong item of any value that is no view of so many states, -1 for a wrong shape.
+
+    It is None for a view.
+    """
+    if not isinstance(value, tuple) or len(value) != size:
+        return -1
+    fresh = 0
+    for at, item in enumerate(value):
+        if not is_below(item, fresh + 1):
+            return at
+        fresh = max(fresh, item + 1)
+    return None
+
+
 def is_view(value, size):
     """Whether any value is a view of so many states."""
-    if not isinstance(value, tuple) or len(value) != size:
-        return False
-    fresh = 0
-    for item in value:
-        if not is_below(item, fresh + 1):
-            return False
-        fresh = max(fresh, item + 1)
-    return True
+    return view_fault(value, size) is None
 
 
 def is_kept(ends, view):

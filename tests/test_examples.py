@@ -51,34 +51,85 @@ RUNS = '''
     (((0, 1), (1, 1), (2, 1)), (0, 1, 2))
 '''
 
-# The rows of the examples of chapters 5 and 6 that need only modules that are there.
+OVERVIEW = '''
+    >>> from sharedunseen.texts import read_store
+    >>> from sharedunseen.court import court
+    >>> from sharedunseen.names import names_of
+    >>> store = read_store("states 2\\noffice\\nflip: 1/0 0/0\\noffice\\nturn: 1/5 0/5")
+    >>> court(store).__class__.__name__
+    'Unseen'
+    >>> names_of(store).owns
+    (0, 0)
+'''
+
 NOTICED = '''
+    >>> from sharedunseen.texts import read_store
     >>> from sharedunseen.clashes import all_clashes
+    >>> from sharedunseen.court import sort_of
     >>> from sharedunseen.notices import noticed, soonest
     >>> from sharedunseen.steady import misled
-    >>> from sharedunseen.texts import read_store
     >>> store = read_store("states 3\\noffice\\na: 0/0 2/0 2/1\\noffice\\nb: 1/0 1/0 2/0")
     >>> all_clashes(store), soonest(store, 0), soonest(store, 1)
     ((('a', 'b', 0, 'ends'),), 2, None)
     >>> noticed(store, 0, ("a", "b")), noticed(store, 0, ("b", "a", "a"))
     (('ends', 2, 1), ('answers', 2, 0))
-    >>> from sharedunseen.clashes import ends_hold
-    >>> from sharedunseen.steady import answers_hold
-    >>> (ends_hold(store), answers_hold(store)), misled(store, 0)
+    >>> sort_of(store), misled(store, 0)
     ((False, False), (0, 'b', ('a', 'a')))
 '''
 
 HOMES = '''
     >>> from sharedunseen.texts import read_store
     >>> from sharedunseen.homes import homes, meeting, crossing
+    >>> from sharedunseen.undoing import undo_run, powers_undo, undo_parts, undoers
     >>> store = read_store("states 4\\noffice\\nclear: 0/0 1/0 0/0 1/0\\nset: 3/0 2/0 2/0 3/0\\noffice\\nturn: 1/0 0/0 3/0 2/0")
     >>> homes(store, 0), homes(store, 1), meeting(store, 0, 3, (0,))
     ((0, 0, 0, 0), (0, 0, 1, 1), (2, 3))
-    >>> crossing(store, 0, 2, (0,))
-    (('set',), ('turn',))
-    >>> from sharedunseen.clashes import all_clashes
-    >>> all_clashes(store)
-    ()
+    >>> undo_run(store, 0, "set"), powers_undo(store, 0, "set")
+    (('clear', 'set', 'clear'), (('set', 'clear'), 2))
+    >>> undoers(store, 0, "set"), undoers(store, 0, "turn"), crossing(store, 0, 2, (0,))
+    ((0,), (0, 1), (('set',), ('turn',)))
+    >>> undo_parts(store, 0, ("set", "turn", "clear"))
+    (('set', 'clear'), ('turn',))
+'''
+
+VIEWS = '''
+    >>> from sharedunseen.texts import read_store
+    >>> from sharedunseen.views import blind_view, blind_view_at, count_blind_views, refinement
+    >>> store = read_store("states 4\\noffice\\nup: 1/0 1/0 3/0 3/0\\noffice\\nask: 0/0 1/0 2/9 3/9")
+    >>> blind_view(store, (0,)), blind_view(store, (1,)), refinement((0, 0, 1, 1), (0, 1, 0, 1))
+    ((0, 0, 1, 1), (0, 1, 2, 3), (0, 1, 2, 3))
+    >>> count_blind_views(store, (0,)), blind_view_at(store, (1,), 14)
+    (2, (0, 1, 2, 3))
+'''
+
+GROUP = '''
+    >>> from sharedunseen.cards import pack
+    >>> from sharedunseen.shared import measure, shared_group
+    >>> measure(pack(3)), shared_group(pack(3)).table[3]
+    ((1, 6, 1), (3, 5, 1, 4, 0, 2))
+'''
+
+LOOKS = '''
+    >>> from sharedunseen.texts import read_store
+    >>> from sharedunseen.islands import explanation
+    >>> from sharedunseen.looks import told_at_once
+    >>> text = "states 4\\noffice\\nflip: 2/0 3/0 0/0 1/0\\nlook: 0/0 1/1 2/0 3/1\\noffice\\n"
+    >>> store = read_store(text + "turn: 1/0 0/0 3/0 2/0\\nsee: 0/0 1/0 2/1 3/1")
+    >>> told_at_once(store, (0,), (0, 0, 1, 2))
+    (0, 0, 1, 1)
+    >>> explanation(store, 0, ((0,), (1,)), (("flip",), ("turn", "see")))
+    ('turn', 'see', 'flip')
+'''
+
+GIVEN = '''
+    >>> from sharedunseen.texts import read_store
+    >>> from sharedunseen.letin import count_given, given_goals
+    >>> from sharedunseen.fuller import settled
+    >>> store = read_store("states 2\\noffice\\noffice\\nflip: 1/0 0/0")
+    >>> given_goals(store, 0), given_goals(store, 1)
+    (((0, 1),), ((0, 1), (0, 1)))
+    >>> [count_given(settled(store, order), 1) for order in ((0, 1), (1, 0))]
+    [2, 4]
 '''
 
 
@@ -88,8 +139,11 @@ class ExamplesTest(unittest.TestCase):
         test = doctest.DocTestParser().get_doctest(rows, {}, "document", None, 0)
         told = []
         doctest.DocTestRunner().run(test, out=told.append)
-        self.assertGreater(len(test.examples), 4)
+        self.assertGreater(len(test.examples), 2)
         self.assertEqual("".join(told), "")
+
+    def test_overview(self):
+        self.run_rows(OVERVIEW)
 
     def test_stores(self):
         self.run_rows(STORES)
@@ -102,6 +156,18 @@ class ExamplesTest(unittest.TestCase):
 
     def test_homes(self):
         self.run_rows(HOMES)
+
+    def test_views(self):
+        self.run_rows(VIEWS)
+
+    def test_group(self):
+        self.run_rows(GROUP)
+
+    def test_looks(self):
+        self.run_rows(LOOKS)
+
+    def test_given(self):
+        self.run_rows(GIVEN)
 
 
 if __name__ == "__main__":
