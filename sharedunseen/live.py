@@ -53,158 +53,158 @@ class Live:
     """A store in use, with a copy for each office."""
 
     def __init__(self, store, state):
-        self.past = []
-        self.era = Era(store, state)
-        self.here = [state] * len(store.offices)
-        self.counts = [(0,) * len(store.offices)] * len(store.offices)
+        self._past = []
+        self._era = Era(store, state)
+        self._here = [state] * len(store.offices)
+        self._counts = [(0,) * len(store.offices)] * len(store.offices)
 
-    def keep(self):
+    def _keep(self):
         """Keeps what `undo` needs to take back the call that is going on."""
-        self.past.append((self.era, len(self.era.run), list(self.here), list(self.counts)))
+        self._past.append((self._era, len(self._era.run), list(self._here), list(self._counts)))
 
     def do(self, name):
         """Does an operation on the copy of its office, and returns its answer."""
-        office = self.era.store.office_of(name)
+        office = self._era.store.office_of(name)
         if office is None:
             raise InvalidRun(0)
-        self.keep()
-        _, ends, answers = self.era.store.operation(name)
-        answer = answers[self.here[office]]
-        self.here[office] = ends[self.here[office]]
-        self.era.add_done(name, answer)
-        known = self.counts[office]
-        self.counts[office] = with_item(known, office, known[office] + 1)
+        self._keep()
+        _, ends, answers = self._era.store.operation(name)
+        answer = answers[self._here[office]]
+        self._here[office] = ends[self._here[office]]
+        self._era.add_done(name, answer)
+        known = self._counts[office]
+        self._counts[office] = with_item(known, office, known[office] + 1)
         return answer
 
-    def catch_up(self, taker, goal):
+    def _catch_up(self, taker, goal):
         """Lets a copy do what it lacks of these counts of each office, and returns this run."""
-        high = tuple([max(pair) for pair in zip(self.counts[taker], goal)])
-        run = self.era.between(self.counts[taker], high)
+        high = tuple([max(pair) for pair in zip(self._counts[taker], goal)])
+        run = self._era.between(self._counts[taker], high)
         for name in run:
-            self.here[taker] = self.era.store.operation(name)[1][self.here[taker]]
-        self.counts[taker] = high
+            self._here[taker] = self._era.store.operation(name)[1][self._here[taker]]
+        self._counts[taker] = high
         return run
 
     def hand(self, giver, taker):
         """Lets the copy of one office do what that of another one has done, and returns this run."""
-        many = len(self.here)
+        many = len(self._here)
         check_number(giver, many, "giver")
         check_number(taker, many, "taker")
-        self.keep()
-        return self.catch_up(taker, self.counts[giver])
+        self._keep()
+        return self._catch_up(taker, self._counts[giver])
 
     def mend(self):
         """Lets each copy do all that it has not done."""
-        self.keep()
-        for office in range(len(self.here)):
-            self.catch_up(office, self.era.totals())
+        self._keep()
+        for office in range(len(self._here)):
+            self._catch_up(office, self._era.totals())
 
     def present(self):
         """The store as it is now."""
-        return self.era.store
+        return self._era.store
 
     def start(self):
         """The state in which all copies were at first."""
-        return self.era.state
+        return self._era.state
 
     def history(self):
         """The run of all that was done."""
-        return tuple(self.era.run)
+        return tuple(self._era.run)
 
     def told(self):
         """The answers that were given."""
-        return tuple(self.era.answers)
+        return tuple(self._era.answers)
 
     def copy_states(self):
         """The states of the copies."""
-        return tuple(self.here)
+        return tuple(self._here)
 
     def known(self, office):
         """How many operations of each office the copy of an office has done."""
-        check_office(self.era.store, office)
-        return self.counts[office]
+        check_office(self._era.store, office)
+        return self._counts[office]
 
     def single(self):
         """Where the history leads the first state."""
-        return self.era.singles[-1]
+        return self._era.singles[-1]
 
     def is_whole(self):
         """Whether each copy has done all."""
-        totals = self.era.totals()
-        return all([counts == totals for counts in self.counts])
+        totals = self._era.totals()
+        return all([counts == totals for counts in self._counts])
 
     def noticing(self):
         """The first that tells the copies from a single store, or None."""
-        if self.era.misses:
-            place = self.era.misses[0]
-            return ("answers", place, self.era.store.office_of(self.era.run[place]))
+        if self._era.misses:
+            place = self._era.misses[0]
+            return ("answers", place, self._era.store.office_of(self._era.run[place]))
         if self.is_whole():
-            for office, state in enumerate(self.here):
+            for office, state in enumerate(self._here):
                 if state != self.single():
-                    return ("ends", len(self.era.run), office)
+                    return ("ends", len(self._era.run), office)
         return None
 
     def put_operation(self, office, operation, *, at=None):
         """Gives an office an operation, and returns the new clashes."""
-        check_office(self.era.store, office)
-        row = self.era.store.offices[office]
+        check_office(self._era.store, office)
+        row = self._era.store.offices[office]
         place = checked_place(at, len(row))
-        return self.grow(with_item(self.era.store.offices, office, row[:place] + (operation,) + row[place:]))
+        return self._grow(with_item(self._era.store.offices, office, row[:place] + (operation,) + row[place:]))
 
     def put_office(self, operations, *, at=None):
         """Adds an office with some operations, and returns the new clashes."""
-        rows = self.era.store.offices
+        rows = self._era.store.offices
         place = checked_place(at, len(rows))
-        return self.grow(rows[:place] + (operations,) + rows[place:])
+        return self._grow(rows[:place] + (operations,) + rows[place:])
 
     def take_operation(self, name):
         """Takes an operation away, and returns the clashes that hold no longer."""
-        store = self.era.store
+        store = self._era.store
         office = store.office_of(name)
         if office is None:
             raise InvalidRun(0)
         row = tuple([operation for operation in store.offices[office] if operation[0] != name])
-        return self.shrink(with_item(store.offices, office, row))
+        return self._shrink(with_item(store.offices, office, row))
 
     def take_office(self, office):
         """Takes an office away, and returns the clashes that hold no longer."""
-        check_office(self.era.store, office)
-        rows = self.era.store.offices
-        return self.shrink(rows[:office] + rows[office + 1:])
+        check_office(self._era.store, office)
+        rows = self._era.store.offices
+        return self._shrink(rows[:office] + rows[office + 1:])
 
-    def grow(self, offices):
+    def _grow(self, offices):
         """Goes on with more offices or operations, and returns the clashes that did not hold before."""
-        old = self.era.store
-        self.turn_to(offices)
-        return beyond(all_clashes(self.era.store), all_clashes(old))
+        old = self._era.store
+        self._turn_to(offices)
+        return beyond(all_clashes(self._era.store), all_clashes(old))
 
-    def shrink(self, offices):
+    def _shrink(self, offices):
         """Goes on with fewer offices or operations, and returns the clashes that hold no longer."""
-        old = self.era.store
-        self.turn_to(offices)
-        return beyond(all_clashes(old), all_clashes(self.era.store))
+        old = self._era.store
+        self._turn_to(offices)
+        return beyond(all_clashes(old), all_clashes(self._era.store))
 
-    def turn_to(self, offices):
+    def _turn_to(self, offices):
         """Goes on with other offices from the state in which all copies are."""
-        store = Store(self.era.store.size, offices)
-        state = self.here[0]
-        if not self.is_whole() or self.here != [state] * len(self.here):
+        store = Store(self._era.store.size, offices)
+        state = self._here[0]
+        if not self.is_whole() or self._here != [state] * len(self._here):
             raise Refused("cut")
-        self.keep()
-        self.era = Era(store, state)
-        self.here = [state] * len(offices)
-        self.counts = [(0,) * len(offices)] * len(offices)
+        self._keep()
+        self._era = Era(store, state)
+        self._here = [state] * len(offices)
+        self._counts = [(0,) * len(offices)] * len(offices)
 
     def undo(self):
         """Takes back the last call that changed something and is not taken back."""
-        if not self.past:
+        if not self._past:
             raise Refused("undo")
-        self.era, length, self.here, self.counts = self.past.pop()
-        self.era.cut_to(length)
+        self._era, length, self._here, self._counts = self._past.pop()
+        self._era.cut_to(length)
 
     def changes(self):
         """How many calls there are to take back."""
-        return len(self.past)
+        return len(self._past)
 
 
 def checked_place(at, many):

@@ -56,17 +56,15 @@ def names_around(store, base):
                 named = row[line[state]]
                 shares[named] = share
                 states[(own, share, other)] = named
-    left = {}
-    right = {}
-    answers = {}
-    for name, ends, told in store.offices[0]:
-        goals = [ends[states[(own, 0, others[base])]] for own in range(len(lefts))]
-        left[name] = tuple([(owns[goal], shares[goal]) for goal in goals])
-        answers[name] = tuple([told[owns.index(own)] for own in range(len(lefts))])
-    for name, ends, told in store.offices[1]:
-        goals = [ends[states[(owns[base], 0, other)]] for other in range(len(rights))]
-        right[name] = tuple([(shares[goal], others[goal]) for goal in goals])
-        answers[name] = tuple([told[others.index(other)] for other in range(len(rights))])
+    starts = [states[(own, 0, others[base])] for own in range(len(lefts))]
+    left = {name: tuple([(owns[ends[start]], shares[ends[start]]) for start in starts])
+            for name, ends, _ in store.offices[0]}
+    answers = {name: tuple([told[start] for start in starts]) for name, _, told in store.offices[0]}
+    starts = [states[(owns[base], 0, other)] for other in range(len(rights))]
+    right = {name: tuple([(shares[ends[start]], others[ends[start]]) for start in starts])
+             for name, ends, _ in store.offices[1]}
+    for name, _, told in store.offices[1]:
+        answers[name] = tuple([told[start] for start in starts])
     return Names(owns, others, tuple(shares), group.table, left, right, answers)
 
 

@@ -241,7 +241,7 @@ class Finder:
                 self.tell(node, "L17 word")
 
     def attribute(self, node):
-        if node.attr.startswith("_") or node.attr in BARRED:
+        if node.attr in BARRED or not re.fullmatch(r"_?[A-Za-z][A-Za-z0-9_]*|__init__", node.attr):
             self.tell(node, f"L17 attribute {node.attr}")
         called = isinstance(self.parents[node], ast.Call) and self.parents[node].func is node
         if not called and node.attr not in self.attributes:

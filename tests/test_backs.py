@@ -9,6 +9,7 @@ from sharedunseen.errors import InvalidNumber, InvalidRun, InvalidState, Refused
 from sharedunseen.stores import Store
 from tests.support import Alike, Odd, all_ops, big_store, done, error_of, many_stores, names_in, not_names, not_numbers
 from tests.support import not_tuples
+from tests.sorts import random_run, whole_stores
 
 RING = Store(3, ((("up", (1, 2, 0), (0, 0, 0)), ("two", (2, 0, 1), (0, 0, 0))), (("b", (0, 0, 1), (0, 0, 0)),)))
 
@@ -50,6 +51,23 @@ class AmendTest(unittest.TestCase):
                             if expected is None and done(store, start, run)[0] == goal:
                                 expected = run
                     self.assertEqual(backs.amend_run(store, office, state, done_run, wished), expected)
+
+    def test_unseen_reversible_stores(self):
+        """There is always a run, the same in each joint home of the others, whatever these did after `done`."""
+        rng = random.Random(46)
+        for store in itertools.chain(whole_stores(47, 60), whole_stores(48, 40, offices=3, size=16)):
+            office = rng.randrange(len(store.offices))
+            others = [k for k in range(len(store.offices)) if k != office]
+            done_run, wished = random_run(rng, store, 4, [office]), random_run(rng, store, 4, [office])
+            state = rng.randrange(store.size)
+            run = backs.amend_run(store, office, state, done_run, wished)
+            self.assertIsNotNone(run)
+            for _ in range(4):
+                meanwhile = random_run(rng, store, 4, others)
+                other = done(store, state, meanwhile)[0]
+                self.assertEqual(backs.amend_run(store, office, other, done_run, wished), run)
+                goal = done(store, state, wished + meanwhile)[0]
+                self.assertEqual(done(store, state, done_run + meanwhile + run)[0], goal)
 
     def test_errors_in_order(self):
         for office in not_numbers() + [2]:

@@ -5,6 +5,7 @@ import random
 import unittest
 
 from sharedunseen import letin
+from sharedunseen.backs import common_back
 from sharedunseen.errors import InvalidNumber, Refused
 from sharedunseen.stores import Store
 from tests.sorts import all_sorts, whole_stores
@@ -143,6 +144,24 @@ class GoalsTest(unittest.TestCase):
                 self.assertIs(letin.may_be_given(store, office, ("new", ends, tuple(told))), alike)
                 even = tuple(min(home) for home in homes)
                 self.assertIs(letin.may_be_given(store, office, ("new", ends, even)), True)
+
+    def test_taken_back(self):
+        """[88]: one run takes an operation back at all states, and ends that lead back may be given, if it leads no two to one."""
+        kinds = [0, 0]
+        for store in whole_stores(257, 100):
+            for office, row in enumerate(store.offices):
+                for name, ends, _ in row:
+                    single = len(set(ends)) == store.size
+                    try:
+                        run = common_back(store, name, tuple(range(store.size)))
+                        self.assertIs(run is not None, single)
+                    except Refused as error:
+                        self.assertEqual(error.word, "wide")
+                    if single:
+                        back = tuple(ends.index(state) for state in range(store.size))
+                        self.assertIsNotNone(letin.number_of_given(store, office, back))
+                    kinds[single] += 1
+        self.assertGreater(min(kinds), 20)
 
     def test_wrong_numbers(self):
         for number in not_numbers() + [2, 10 ** 30]:

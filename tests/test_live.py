@@ -159,6 +159,10 @@ class LiveTest(unittest.TestCase):
                 self.assertEqual(live.known(store.office_of(one)), live.known(store.office_of(other)))
                 self.assertNotEqual(*[live.copy_states()[store.office_of(name)] for name in (one, other)])
 
+    def test_methods_alone(self):
+        live = Live(STORE, 0)
+        self.assertEqual([name for name in vars(live) if not name.startswith("_")], [])
+
     def test_handed_on(self):
         """What was handed to one copy is handed on with its own, in the order in which it was done."""
         live = Live(STORE, 0)
