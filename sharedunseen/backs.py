@@ -49,12 +49,12 @@ def common_back(store, name, states):
         raise InvalidState()
     ends = store.operation(name)[1]
     start = tuple([ends[state] for state in states])
-    steps = tuple_steps(chosen_operations(store, (store.office_of(name),)), start)
+    steps = tuple_steps(chosen_operations(store, (store.office_of(name),)), start, MOST_TUPLES)
     return run_along(steps, states) if states in steps else None
 
 
-def tuple_steps(operations, start):
-    """As `first_steps`, for a tuple of states that are led together."""
+def tuple_steps(operations, start, most):
+    """As `first_steps`, for a tuple of states that are led together, to `most` tuples at most."""
     steps = {start: None}
     queue = [start]
     at = 0
@@ -66,6 +66,6 @@ def tuple_steps(operations, start):
             if there not in steps:
                 steps[there] = (here, name)
                 queue.append(there)
-        if len(queue) > MOST_TUPLES:
+        if len(queue) > most:
             raise Refused("wide")
     return steps

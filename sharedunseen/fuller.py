@@ -1,5 +1,6 @@
 """Offices to which all is given that may be given without a clash."""
 
+from sharedunseen.backs import tuple_steps
 from sharedunseen.cards import LETTERS, silent
 from sharedunseen.checks import check_number, check_office, chosen_operations
 from sharedunseen.errors import InvalidNumber, Refused
@@ -43,23 +44,9 @@ def is_full(store, office):
     many = count_given(store, office)
     if many > MOST_GIVEN:
         raise Refused("wide")
-    return count_ends(chosen_operations(store, (office,)), tuple(least_states(store, office))) == many
-
-
-def count_ends(operations, start):
-    """To how many tuples of states runs lead a tuple of states."""
-    found = {start: True}
-    queue = [start]
-    at = 0
-    while at < len(queue):
-        here = queue[at]
-        at += 1
-        for _, ends, _ in operations:
-            there = tuple([ends[state] for state in here])
-            if there not in found:
-                found[there] = True
-                queue.append(there)
-    return len(queue)
+    # The ends of runs may all be given, so they are told by where they lead the least states, too.
+    leasts = tuple(least_states(store, office))
+    return len(tuple_steps(chosen_operations(store, (office,)), leasts, MOST_GIVEN)) == many
 
 
 def filled(store, office):

@@ -1,6 +1,6 @@
 """Marks: what an office must keep of a state so that it can take an operation back."""
 
-from sharedunseen.backs import tuple_steps
+from sharedunseen.backs import MOST_TUPLES, tuple_steps
 from sharedunseen.checks import check_name, chosen_operations, first_unknown, table_of
 from sharedunseen.errors import Refused
 from sharedunseen.homes import joint_homes, need_unseen_reversible, other_offices
@@ -33,7 +33,7 @@ def least_marks(store, name):
     ends = store.operation(name)[1]
     start = tuple([ends[state] for state in leasts])
     # The others lead a run's effect on one state of their joint home to all of it, so the least ones tell all.
-    steps = tuple_steps(chosen_operations(store, (office,)), start)
+    steps = tuple_steps(chosen_operations(store, (office,)), start, MOST_TUPLES)
     chosen = fewest_tuples(list(steps), leasts)
     goals = [first_back(chosen, number, state) for number, state in enumerate(leasts)]
     marks = numbered([goals[number] for number in view])
