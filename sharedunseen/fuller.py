@@ -123,7 +123,6 @@ def settled(store, order):
     """The store in which one office after the other is filled, in some order."""
     if not is_order(order, len(store.offices)):
         raise InvalidNumber("order")
-    need_unseen_reversible(store)
     for office in order:
         store = filled(store, office)
     return store

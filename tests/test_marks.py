@@ -86,6 +86,25 @@ class MarksTest(unittest.TestCase):
                 found.add((fewest, most))
         self.assertTrue({(1, 1), (2, 2), (3, 2), (3, 3)} <= found, found)
 
+    def test_one_office_alone(self):
+        """Each state is a home of its own, and runs lead them to tuples of all sorts."""
+        rng = random.Random(278)
+        found = set()
+        for _ in range(400):
+            size = rng.randrange(3, 6)
+            row = tuple((name, tuple(rng.randrange(size) for _ in range(size)), (0,) * size) for name in "abc"[:rng.randrange(1, 4)])
+            store = Store(size, (row, ()))
+            if not is_reversible(store):
+                continue
+            for name, _, _ in row:
+                if not is_wide(store, name):
+                    told = marks.least_marks(store, name)
+                    fewest = fewest_by_words(store, name)
+                    self.assertEqual(max(told.view) + 1, fewest)
+                    self.assertTrue(are_marks_by_words(store, name, told.view, told.runs))
+                    found.add((size, fewest))
+        self.assertTrue({(3, 2), (4, 2), (4, 3), (5, 3), (5, 4)} <= found)
+
     def test_full_offices(self):
         """If the office is full the fewest numbers are as many as the homes that are led into one."""
         many = 0

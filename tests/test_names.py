@@ -223,6 +223,16 @@ class NamesTest(unittest.TestCase):
         self.assertIs(names.check_names(store, value), True)
         self.assertEqual(parts_of(names.Names(1, 2, 3, 4, 5, 6, 7)), dict(zip(PARTS, range(1, 8))))
 
+    def test_great_answers(self):
+        most = 10 ** 12
+        store = Store(2, ((("a", (1, 0), (most, most)),), (("b", (0, 1), (most, most)),)))
+        told = names.names_of(store)
+        self.assertEqual(told.answers, {"a": (most, most), "b": (most,)})
+        self.assertIs(names.check_names(store, told), True)
+        for name in "ab":
+            answers = {**told.answers, name: (most + 1,) * len(told.answers[name])}
+            self.assertIs(names.check_names(store, names.Names(**{**parts_of(told), "answers": answers})), False)
+
     def test_edges(self):
         one = Store(1, ((), ()))
         told = names.names_of(store=one)
