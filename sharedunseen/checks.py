@@ -37,6 +37,25 @@ def chosen_operations(store, offices):
     return sorted([operation for office in offices for operation in store.offices[office]])
 
 
+def check_run_of(store, run, offices):
+    """Raises unless any value is a run of some offices, of all for None."""
+    at = run_fault(store, run, offices)
+    if at is not None:
+        raise InvalidRun(at)
+
+
+def run_fault(store, run, offices):
+    """The first index of any value that is no name of an operation of some offices, -1 for no tuple, or None."""
+    if not isinstance(run, tuple):
+        return -1
+    return first_unknown(run, table_of(chosen_operations(store, offices)))
+
+
+def is_run_of(store, run, offices):
+    """Whether any value is a run of some offices, of all for None."""
+    return run_fault(store, run, offices) is None
+
+
 def table_of(operations):
     """A dict of operations by their names."""
     return {operation[0]: operation for operation in operations}

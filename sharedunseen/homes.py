@@ -1,7 +1,7 @@
 """Homes of states, states that last, and meetings of homes."""
 
 from sharedunseen.checks import chosen_operations
-from sharedunseen.clashes import clash_states
+from sharedunseen.clashes import clash_states, ends_hold
 from sharedunseen.errors import Refused
 from sharedunseen.partings import numbered
 from sharedunseen.walks import bits_of, first_steps, reach_masks, run_along, step_counts
@@ -49,6 +49,19 @@ def need_unseen_reversible(store):
     """Raises unless nothing clashes in a store and each state can be reached from each."""
     if clash_states(store):
         raise Refused("seen")
+    if not is_reversible(store):
+        raise Refused("oneway")
+
+
+def need_smooth(store):
+    """Raises unless no ends clash in a store."""
+    if not ends_hold(store):
+        raise Refused("ends")
+
+
+def need_smooth_reversible(store):
+    """Raises unless no ends clash in a store and each state can be reached from each."""
+    need_smooth(store)
     if not is_reversible(store):
         raise Refused("oneway")
 

@@ -1,6 +1,6 @@
 """Islands: offices that share a copy, and single stores that explain the answers of a cut."""
 
-from sharedunseen.checks import chosen_operations, first_unknown, table_of
+from sharedunseen.checks import is_run_of
 from sharedunseen.errors import InvalidNumber, InvalidRun
 from sharedunseen.kinds import is_lot
 from sharedunseen.runs import answers_of, check_state
@@ -28,8 +28,7 @@ def check_cut(store, state, islands, runs):
     if not isinstance(runs, tuple) or len(runs) != len(islands):
         raise InvalidRun(-1)
     for at, run in enumerate(runs):
-        own = table_of(chosen_operations(store, islands[at]))
-        if not isinstance(run, tuple) or first_unknown(run, own) is not None:
+        if not is_run_of(store, run, islands[at]):
             raise InvalidRun(at)
 
 

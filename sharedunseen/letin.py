@@ -5,6 +5,7 @@ from sharedunseen.clashes import answer_changes, ends_clash
 from sharedunseen.errors import Refused
 from sharedunseen.homes import joint_homes, lasting_states, other_offices
 from sharedunseen.kinds import are_below
+from sharedunseen.partings import least_places
 from sharedunseen.stores import is_operation
 from sharedunseen.steady import other_operations
 
@@ -27,8 +28,7 @@ def least_states(store, office):
     others = other_offices(store, (office,))
     if len(lasting_states(store, others)) < store.size:
         raise Refused("oneway")
-    view = joint_homes(store, others)
-    return [view.index(number) for number in range(max(view) + 1)]
+    return least_places(joint_homes(store, others))
 
 
 def moved_alike(operations, start, goal):

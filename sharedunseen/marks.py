@@ -4,7 +4,7 @@ from sharedunseen.backs import MOST_TUPLES, tuple_steps
 from sharedunseen.checks import check_name, chosen_operations, first_unknown, table_of
 from sharedunseen.errors import Refused
 from sharedunseen.homes import joint_homes, need_unseen_reversible, other_offices
-from sharedunseen.partings import is_kept, is_view, numbered
+from sharedunseen.partings import is_kept, is_view, least_places, numbered
 from sharedunseen.runs import after
 from sharedunseen.steady import other_operations
 from sharedunseen.walks import run_along
@@ -26,10 +26,9 @@ def least_marks(store, name):
     need_unseen_reversible(store)
     office = store.office_of(name)
     view = joint_homes(store, other_offices(store, (office,)))
-    many = max(view) + 1
-    if many > MOST_HOMES:
+    leasts = least_places(view)
+    if len(leasts) > MOST_HOMES:
         raise Refused("wide")
-    leasts = [view.index(number) for number in range(many)]
     ends = store.operation(name)[1]
     start = tuple([ends[state] for state in leasts])
     # The others lead a run's effect on one state of their joint home to all of it, so the least ones tell all.

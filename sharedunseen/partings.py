@@ -11,6 +11,11 @@ def numbered(things):
     return tuple([numbers[thing] for thing in things])
 
 
+def common_view(views):
+    """The view in which states have equal numbers if they have equal numbers in each of some views."""
+    return numbered([tuple([view[state] for view in views]) for state in range(len(views[0]))])
+
+
 def view_fault(value, size):
     """The index of the first wrong item of any value that is no view of so many states, -1 for a wrong shape.
 
@@ -29,6 +34,21 @@ def view_fault(value, size):
 def is_view(value, size):
     """Whether any value is a view of so many states."""
     return view_fault(value, size) is None
+
+
+def least_places(view):
+    """A list of the first place of each number of a view."""
+    firsts = {}
+    for place, number in enumerate(view):
+        firsts.setdefault(number, place)
+    return list(firsts.values())
+
+
+def operation_over(operation, view):
+    """The operation on the numbers of a view that carries it, with the answers of the least states."""
+    name, ends, answers = operation
+    leasts = least_places(view)
+    return (name, tuple([view[ends[state]] for state in leasts]), tuple([answers[state] for state in leasts]))
 
 
 def is_kept(ends, view):

@@ -1,7 +1,7 @@
 """Runs: where they lead, what they answer, and which are the shortest."""
 
-from sharedunseen.checks import check_number, check_office, chosen_operations, first_unknown, table_of
-from sharedunseen.errors import InvalidRun, InvalidState
+from sharedunseen.checks import check_number, check_office, check_run_of, chosen_operations, table_of
+from sharedunseen.errors import InvalidState
 from sharedunseen.kinds import is_below
 from sharedunseen.stores import operations_of
 from sharedunseen.walks import first_steps, run_along, step_counts
@@ -17,15 +17,11 @@ def check_state(store, value):
 
 def check_run(store, run, *, office=None):
     """Raises unless any value is a run of the store, or of one office of it."""
-    operations = operations_of(store)
+    offices = None
     if office is not None:
         check_office(store, office)
-        operations = store.offices[office]
-    if not isinstance(run, tuple):
-        raise InvalidRun(-1)
-    at = first_unknown(run, table_of(operations))
-    if at is not None:
-        raise InvalidRun(at)
+        offices = (office,)
+    check_run_of(store, run, offices)
 
 
 def own_run(store, run, office):

@@ -2,7 +2,7 @@
 
 from math import comb
 
-from sharedunseen.checks import check_number, check_office
+from sharedunseen.checks import check_number, check_office, is_run_of
 from sharedunseen.errors import InvalidNumber, InvalidRun, Refused
 from sharedunseen.grids import Grid
 from sharedunseen.kinds import is_integer, is_name, is_order
@@ -149,17 +149,8 @@ def check_own_runs(store, runs):
     if not isinstance(runs, tuple) or len(runs) != len(store.offices):
         raise InvalidRun(-1)
     for office, run in enumerate(runs):
-        if not is_own_run(store, run, office):
+        if not is_run_of(store, run, (office,)):
             raise InvalidRun(office)
-
-
-def is_own_run(store, run, office):
-    """Whether any value is a run of this office."""
-    try:
-        check_run(store, run, office=office)
-    except InvalidRun:
-        return False
-    return True
 
 
 def narrow_grid(store, runs):

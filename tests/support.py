@@ -2,6 +2,7 @@
 
 import random
 
+from sharedunseen.errors import StoreError
 from sharedunseen.stores import Store
 
 LETTERS = "abcdefghijklmnopqrstuvwxyz"
@@ -87,6 +88,61 @@ def error_of(test, kind, call, *args, **more):
         call(*args, **more)
     test.assertIs(caught.exception.__class__, kind)
     return caught.exception
+
+
+def fault(error):
+    """The kind of an error, and what it tells."""
+    return (error.__class__.__name__,) + tuple(vars(error).values())
+
+
+def errors_in_order(test, call, good, wrong):
+    """Each wrong argument raises its error, whatever is wrong with those that are checked behind it.
+
+    `good` has right arguments by their names. `wrong` has, in the order of the checks, pairs of a name
+    and of a list of pairs: a wrong value, and its error as `fault` tells it.
+    """
+    call(**good)
+    for at, (name, values) in enumerate(wrong):
+        for value, told in values:
+            behind = {later: rest[0][0] for later, rest in reversed(wrong[at + 1:])}
+            for spoilt in ({}, behind):
+                args = {**good, **spoilt, name: value}
+                with test.assertRaises(StoreError, msg=args) as caught:
+                    call(**args)
+                test.assertEqual(fault(caught.exception), told, args)
+
+
+def wrong_numbers(word, *more):
+    """Values that are no numbers, and some others, with the error for the argument called `word`."""
+    return [(value, ("InvalidNumber", word)) for value in list(more) + not_numbers()]
+
+
+def wrong_states(*more):
+    return [(value, ("InvalidState",)) for value in list(more) + [200, 10 ** 20] + not_numbers()]
+
+
+def wrong_tuples(*more):
+    """Values that are no tuples of states of the right length, with their error."""
+    return [(value, ("InvalidState",)) for value in list(more) + not_tuples()]
+
+
+def wrong_runs(name, *foreign):
+    """Values that are no runs although `name` is a name, with their errors."""
+    found = [(value, ("InvalidRun", -1)) for value in not_tuples()]
+    for item in list(foreign) + not_names() + ["zzzzz"]:
+        found += [((item,), ("InvalidRun", 0)), ((name, name, item, None), ("InvalidRun", 2))]
+    return found
+
+
+def wrong_lots(word, *more):
+    """Values that are no lots of offices."""
+    wrong = not_tuples() + [(8,), (1, 0), (1, 1), (-1,), (True,), ("0",), (0, None), (0, Alike()), (Odd(),), (Touchy(),), [0]]
+    return [(value, ("InvalidNumber", word)) for value in list(more) + wrong]
+
+
+def refused(word, *values):
+    """Values that are refused with a word."""
+    return [(value, ("Refused", word)) for value in values]
 
 
 def random_ends(rng, size):

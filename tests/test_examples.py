@@ -100,6 +100,12 @@ VIEWS = '''
     ((0, 0, 1, 1), (0, 1, 2, 3), (0, 1, 2, 3))
     >>> count_blind_views(store, (0,)), blind_view_at(store, (1,), 14)
     (2, (0, 1, 2, 3))
+
+    >>> from sharedunseen.own import least_store, least_view, own_view, telling_run
+    >>> own_view(store, 0), own_view(store, 1), least_view(store)
+    ((0, 1, 2, 3), (0, 0, 1, 1), (0, 0, 1, 1))
+    >>> telling_run(store, 1, 3), telling_run(store, 0, 1), least_store(store, (1,)).offices
+    (('ask',), None, ((), (('ask', (0, 1), (0, 9)),)))
 '''
 
 GROUP = '''

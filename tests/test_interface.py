@@ -71,6 +71,25 @@ INTERFACE = {
         idle_names(store,*,most=10000)""",
     "fuller": """free_group(store,*,office=0,base=0) is_full(store,office) filled(store,office)
         settled(store,order)""",
+    "joins": """bundles(store) regrouped(store,groups) must_join(store) folded(store,offices) part_counts(store)
+        shared_count(store,one,other)""",
+    "learnt": """possible(store,offices,state,look) sure_for(store,offices,state,look)
+        learnt(store,offices,state,run,end,others) hidden(store,offices,others)""",
+    "loops": """share_of(store,run,*,office=0,base=0) loops(store,*,office=0,base=0)
+        unlike_runs(store,*,office=0,base=0) check_unlike(store,value,*,office=0,base=0)""",
+    "many": """cores(store) commons(store) core_measure(store) core_group(store,*,base=0)
+        core_end(store,one,goal,state)""",
+    "merges": """island_ends(store,state,run,*,islands=None) merged(store,state,ends,*,islands=None)
+        join_ends(store,state,ends,one,other,*,islands=None) starts(store,ends,*,islands=None)
+        starts_to(store,ends,goal,*,islands=None) outcomes(store,ends,*,islands=None)""",
+    "orders": """hanging(store,islands,state) first_order(store,islands,state) count_orders(store,islands,state)
+        hanging_ring(store,islands,state) check_ring(store,islands,state,value) unexplained(store,islands,state)""",
+    "own": """own_view(store,office) is_carried(store,view,offices=None) least_view(store,offices=None)
+        telling_run(store,one,other,offices=None) seen_store(store,view,offices=None) own_store(store,office)
+        least_store(store,offices=None)""",
+    "powers": """left_power(names,run,own,many) right_power(names,run,other,many)
+        power_ends(names,state,run,many,other,more) tail_and_round(store,state,run)
+        after_times(store,state,run,many) answer_sums(store,state,run,many) again_ends(store,state,run,other)""",
 }
 
 METHODS = {
