@@ -1,6 +1,6 @@
 """Operations that are barred so that nothing clashes, at the least price."""
 
-from sharedunseen.checks import check_number, check_office, first_unknown, table_of
+from sharedunseen.checks import check_number, check_office, first_unknown, has_names, table_of
 from sharedunseen.clashes import clashing_pairs
 from sharedunseen.covers import ClashGraph, choice_of, first_lots, named_loads, paper_of
 from sharedunseen.errors import InvalidNumber, InvalidRun, Refused
@@ -51,9 +51,7 @@ def without(store, bars):
 
 def are_prices(store, value):
     """Whether any value is a dict with a price for each operation of the store."""
-    if not isinstance(value, dict) or len(value) != len(store.names()):
-        return False
-    if first_unknown(list(value), table_of(operations_of(store))) is not None:
+    if not has_names(store, value):
         return False
     return all([is_below(price, MOST_PRICE + 1) and price > 0 for price in list(value.values())])
 

@@ -1,10 +1,9 @@
 """Bills: what the operations of a run cost, each at the state at which it is done."""
 
-from sharedunseen.checks import check_number, first_unknown, table_of
+from sharedunseen.checks import check_number, has_names
 from sharedunseen.errors import InvalidNumber
 from sharedunseen.kinds import is_integer
 from sharedunseen.runs import check_run, check_state, passed
-from sharedunseen.stores import operations_of
 from sharedunseen.weavings import check_own_runs, narrow_grid
 
 MOST_RATE = 1_000_000_000
@@ -13,11 +12,7 @@ MOST_TIMES = 1_000_000_000_000_000_000
 
 def check_rates(store, rates):
     """Raises unless any value is a dict with a rate of each operation of the store for each state."""
-    if not isinstance(rates, dict) or len(rates) != len(store.names()):
-        raise InvalidNumber("rates")
-    if first_unknown(list(rates), table_of(operations_of(store))) is not None:
-        raise InvalidNumber("rates")
-    if not all([are_rates(row, store.size) for row in list(rates.values())]):
+    if not has_names(store, rates) or not all([are_rates(row, store.size) for row in list(rates.values())]):
         raise InvalidNumber("rates")
 
 

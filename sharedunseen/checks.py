@@ -67,3 +67,10 @@ def first_unknown(items, table):
         if not isinstance(item, str) or item not in table:
             return at
     return None
+
+
+def has_names(store, value):
+    """Whether any value is a dict whose keys are just the names of the operations of a store."""
+    if not isinstance(value, dict) or len(value) != len(store.names()):
+        return False
+    return first_unknown(list(value), table_of(operations_of(store))) is None

@@ -9,6 +9,11 @@ def is_integer(value):
     return isinstance(value, int) and not isinstance(value, bool)
 
 
+def is_number(value):
+    """Whether any value is a number, however great."""
+    return is_integer(value) and value >= 0
+
+
 def is_below(value, end):
     """Whether any value is a number below `end`."""
     return isinstance(value, int) and not isinstance(value, bool) and 0 <= value < end

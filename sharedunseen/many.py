@@ -5,7 +5,7 @@ from sharedunseen.errors import Refused
 from sharedunseen.homes import homes, joint_homes, need_unseen_reversible, other_offices
 from sharedunseen.partings import common_view
 from sharedunseen.runs import after, check_state, shortest_run
-from sharedunseen.shared import Shared, image_rows
+from sharedunseen.shared import Shared, product_table
 
 MANY_OFFICES = 3
 
@@ -60,19 +60,42 @@ def core_end(store, one, goal, state):
     return after(store, state, shortest_run(store, one, goal, (0,)))
 
 
-def core_states(store, base):
-    """The states of the core of a state, this one first."""
-    core = core_view(store)
-    rest = [state for state, number in enumerate(core) if number == core[base] and state != base]
+def states_like(view, base):
+    """The states that have the number of `base` in a view, this one first."""
+    rest = [state for state, number in enumerate(view) if number == view[base] and state != base]
     return (base,) + tuple(rest)
+
+
+def core_table(store, base):
+    """The products in the core of a state, by runs of office 0, for a store that is unseen and reversible."""
+    shares = states_like(core_view(store), base)
+    return Shared(product_table(chosen_operations(store, (0,)), shares), shares)
+
+
+def core_rows(store, core, shares):
+    """For the number of each core the states to which some run leads the states of the first one, in their order.
+
+    The cores are reached office by office. So where own parts tell the core, the runs of
+    an office that lead to it hang on its own part alone.
+    """
+    rows = {core[shares[0]]: tuple(shares)}
+    for operations in store.offices:
+        queue = list(rows)
+        at = 0
+        while at < len(queue):
+            row = rows[queue[at]]
+            at += 1
+            for operation in operations:
+                moved = tuple([operation[1][state] for state in row])
+                if core[moved[0]] not in rows:
+                    rows[core[moved[0]]] = moved
+                    queue.append(core[moved[0]])
+    return rows
 
 
 def core_group(store, *, base=0):
     """The table of the products of the states of the core of `base`."""
     check_number(base, store.size, "base")
     need_many_offices(store)
-    shares = core_states(store, base)
-    rows = image_rows(chosen_operations(store, (0,)), shares)
-    places = {state: place for place, state in enumerate(shares)}
-    table = [tuple([places[rows[moved][place]] for moved in shares]) for place in range(len(shares))]
-    return Shared(tuple(table), shares)
+    # It is commutative, so the product may be that of the two in the other order.
+    return core_table(store, base)

@@ -106,7 +106,7 @@ def check_names(store, value):
         return False
     if not are_factors(value.right, store.offices[1], othered, many, othered):
         return False
-    if not are_told(value.answers, store, owned, othered):
+    if not are_told(value.answers, list(value.left), list(value.right), owned, othered):
         return False
     named = store_of(value)
     return named == store
@@ -154,10 +154,8 @@ def are_factors(value, operations, many, first, second):
     return True
 
 
-def are_told(value, store, owned, othered):
-    """Whether any value is a dict with an answer of each operation for each part of its office."""
-    left = [operation[0] for operation in store.offices[0]]
-    right = [operation[0] for operation in store.offices[1]]
+def are_told(value, left, right, owned, othered):
+    """Whether any value is a dict with an answer of each of these operations for each part of its office."""
     if not has_keys(value, left + right):
         return False
     if not all([are_below(value[name], owned, MOST_ANSWER + 1) for name in left]):

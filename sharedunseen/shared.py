@@ -42,10 +42,14 @@ def shared_group(store, *, office=0, base=0):
     shares = [state for state in range(store.size)
               if state != base and own[state] == own[base] and rest[state] == rest[base]]
     shares.insert(0, base)
-    images = image_rows(chosen_operations(store, (office,)), shares)
+    return Shared(product_table(chosen_operations(store, (office,)), shares), tuple(shares))
+
+
+def product_table(operations, shares):
+    """The table whose row i tells where a run that leads the first of some states to that with number i leads each."""
+    rows = image_rows(operations, shares)
     places = {state: place for place, state in enumerate(shares)}
-    table = [tuple([places[state] for state in images[share]]) for share in shares]
-    return Shared(tuple(table), tuple(shares))
+    return tuple([tuple([places[state] for state in rows[share]]) for share in shares])
 
 
 def image_rows(operations, states):
