@@ -16,7 +16,17 @@ def commutes(table):
     return all(table[i][j] == table[j][i] for i in range(len(table)) for j in range(i))
 
 
-def part_store(rng, table, parts, counts=(0, 3), answers=2):
+def any_goals(rng, part):
+    """Where an operation leads so many own parts: an order of them or any ones."""
+    return rng.sample(range(part), part) if rng.randrange(2) else [rng.randrange(part) for _ in range(part)]
+
+
+def sinking_goals(rng, part):
+    """As `any_goals`, but every other part is left by no operation."""
+    return [own if own % 2 else rng.randrange(part) for own in range(part)]
+
+
+def part_store(rng, table, parts, counts=(0, 3), answers=2, goals_of=any_goals):
     """A store of own parts and a share, which office 0 multiplies from the left, the others from the right."""
     many = len(table)
     states = list(itertools.product(*[range(part) for part in parts], range(many)))
@@ -27,7 +37,7 @@ def part_store(rng, table, parts, counts=(0, 3), answers=2):
     for office, part in enumerate(parts):
         row = []
         for _ in range(rng.randrange(counts[0], counts[1])):
-            goals = rng.sample(range(part), part) if rng.randrange(2) else [rng.randrange(part) for _ in range(part)]
+            goals = goals_of(rng, part)
             factors = [rng.randrange(many) for _ in range(part)]
             told = [rng.randrange(answers) for _ in range(part)]
             ends = [0] * len(states)

@@ -115,6 +115,40 @@ GROUP = '''
     ((1, 6, 1), (3, 5, 1, 4, 0, 2))
 '''
 
+MADE = '''
+    >>> from sharedunseen.forms import made_names
+    >>> from sharedunseen.names import store_of
+    >>> names = made_names(((0, 1), (1, 0)), {"a": ((1, 0), (0, 1))}, {"b": ((1, 0),)}, {"a": (5, 6), "b": (0,)})
+    >>> store_of(names).operation("a")
+    ('a', (2, 3, 1, 0), (5, 5, 6, 6))
+'''
+
+CUTS = '''
+    >>> from sharedunseen.names import names_of
+    >>> from sharedunseen.texts import read_store
+    >>> from sharedunseen.cuts import cut_ends, stand_ins
+    >>> from sharedunseen.lengths import ends_by, settling
+    >>> store = read_store("states 4\\noffice\\nclear: 0/0 1/0 0/0 1/0\\nset: 3/0 2/0 2/0 3/0\\noffice\\nturn: 1/5 0/5 3/5 2/5")
+    >>> cut_ends(names_of(store), 0, ("set",), ("turn",)), stand_ins(store, 0, ("turn", "set"), 3)
+    ((3, 1, 2), (('set',), ('turn',)))
+    >>> ends_by(store, 0, (1, 1)), settling(store, 0)
+    ((1, 2), (3, 1))
+'''
+
+MERGED = '''
+    >>> from sharedunseen.texts import read_store
+    >>> from sharedunseen.merges import join_ends, merged, outcomes
+    >>> from sharedunseen.notes import count_ends, ends_suffice, island_measure, least_notes
+    >>> bit = read_store("states 2\\noffice\\na: 1/0 0/0\\noffice\\nb: 1/0 0/0\\noffice\\nc: 1/0 0/0")
+    >>> merged(bit, 0, (1, 1, 0)), outcomes(bit, (1, 1, 0)), ends_suffice(bit), count_ends(bit)
+    (0, (0,), True, 8)
+    >>> join_ends(bit, 0, (1, 1, 0), 1, 2)
+    (((0,), (1, 2)), (1, 1))
+    >>> two = ((0,), (1, 2))
+    >>> island_measure(bit, islands=two), outcomes(bit, (1, 1), islands=two), least_notes(bit, islands=two)
+    ((1, 2, 2), (0, 1), (0, 1))
+'''
+
 LOOKS = '''
     >>> from sharedunseen.texts import read_store
     >>> from sharedunseen.islands import explanation
@@ -168,6 +202,15 @@ class ExamplesTest(unittest.TestCase):
 
     def test_group(self):
         self.run_rows(GROUP)
+
+    def test_made(self):
+        self.run_rows(MADE)
+
+    def test_cuts(self):
+        self.run_rows(CUTS)
+
+    def test_merged(self):
+        self.run_rows(MERGED)
 
     def test_looks(self):
         self.run_rows(LOOKS)

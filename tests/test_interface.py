@@ -90,6 +90,25 @@ INTERFACE = {
     "powers": """left_power(names,run,own,many) right_power(names,run,other,many)
         power_ends(names,state,run,many,other,more) tail_and_round(store,state,run)
         after_times(store,state,run,many) answer_sums(store,state,run,many) again_ends(store,state,run,other)""",
+    "rests": "last_homes(store,state,offices=None) rest_runs(store,state) fate(store,state,choice)",
+    "sheets": """Sheet(scale,lists,worth) Uneven(one,other,state) sheet_of(store,rates) check_sheet(store,rates,value)
+        rates_of(store,sheet) own_bills(store,sheet,state,run)""",
+    "cuts": """Replay(counts,ends,answers) cut_ends(names,state,run,other) replay(store,state,events)
+        stand_ins(store,state,run,many=1)""",
+    "forms": """Turning(owns,others,images,lefts,rights) made_names(table,left,right,answers)
+        check_turning(one,other,value) order_by(one,other,turning) some_turning(one,other,order) form_of(store)
+        still_matches(store)""",
+    "lengths": """ends_by(store,state,lengths) runs_by(store,state,lengths,goal) phases(store) phase_steps(store)
+        settling(store,office)""",
+    "notes": """island_measure(store,*,islands=None) merge_table(store,*,islands=None,base=0)
+        ends_suffice(store,*,islands=None) torn(store,*,islands=None) check_torn(store,value,*,islands=None)
+        are_notes(store,value,*,islands=None) least_notes(store,*,islands=None)
+        merged_by_note(store,notes,note,ends,*,islands=None) count_notes(store,*,islands=None)
+        count_ends(store,*,islands=None)""",
+    "turns": "turn_of(store,run,*,base=0) turns(store,*,base=0) turning_store(table,shares,matchings,*,many=3)",
+    "sums": """Sum(parts,shares,table,adds) Bent(run,state,other) sum_of(store) check_sum(store,value)
+        lone_offices(store) multipliers(store,*,base=0)""",
+    "checker": "claim_words() check(claim) carried_over(claim,store) gather(store) concluded(store,claims)",
 }
 
 METHODS = {
@@ -131,6 +150,12 @@ class InterfaceTest(unittest.TestCase):
                 name, _, rest = word[:-1].partition("(")
                 self.assertIn(name, told, module)
                 self.assertEqual(told[name], rest, name)
+
+    def test_all_modules(self):
+        """The document lists these modules; others help them."""
+        self.assertEqual(len(INTERFACE), 49)
+        for module in INTERFACE:
+            self.assertTrue((PACKAGE / (module + ".py")).exists(), module)
 
     def test_package(self):
         self.assertTrue((PACKAGE / "__init__.py").exists())
