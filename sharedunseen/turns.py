@@ -4,7 +4,7 @@ from sharedunseen.checks import check_number
 from sharedunseen.errors import InvalidNumber, Refused
 from sharedunseen.groups import check_shares, is_commutative, is_matching
 from sharedunseen.many import MANY_OFFICES, core_rows, core_table, core_view, need_many_offices
-from sharedunseen.runs import check_run, run_ends
+from sharedunseen.runs import run_ends
 from sharedunseen.stores import MOST_OPERATIONS, MOST_STATES, Store, operations_of
 
 MOST_MANY = 8
@@ -21,9 +21,8 @@ def turn_of(store, run, *, base=0):
     """The turn of a run, None if it leads `base` out of its core."""
     check_number(base, store.size, "base")
     need_many_offices(store)
-    check_run(store, run)
-    group = core_table(store, base)
     ends = run_ends(store, run)
+    group = core_table(store, base)
     if ends[base] not in group.shares:
         return None
     return turn_by(group.table, [group.shares.index(ends[state]) for state in group.shares])

@@ -148,6 +148,20 @@ class CheckTest(unittest.TestCase):
         for value in not_tuples() + [(), ("",), ("store", RING), ("check", RING), (None, None)]:
             self.assertIs(checker.check(value), False)
 
+    def test_other_arguments(self):
+        """A tuple with another first argument than a store, or names or tables where these are asked, is no claim."""
+        claims = both_claims()
+        for word, (good, _) in claims.items():
+            for value in not_tuples() + [()]:
+                if word not in ("table", "matching"):
+                    self.assertIs(checker.check((word, value) + good[2:]), False, word)
+        good = claims["turning"][0]
+        self.assertIs(checker.check(good[:2] + (RING,) + good[3:]), False)
+        good = claims["matching"][0]
+        for value in not_tuples():
+            self.assertIs(checker.check(("matching", value) + good[2:]), False)
+            self.assertIs(checker.check(good[:2] + (value,) + good[3:]), False)
+
     def test_any_last_value(self):
         """The last argument may be any value, but for runs and tables, too."""
         for word, (good, _) in both_claims().items():

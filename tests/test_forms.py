@@ -296,6 +296,16 @@ class TurningTest(unittest.TestCase):
             self.assertIs(forms.check_turning(one, other, turning), False)
             self.assertIs(forms.check_turning(other, one, turning), False)
             self.assertEqual(error_of(self, Refused, forms.some_turning, one, other, order).word, "order")
+        rows = (("a", (1, 0), (3, 4)), ("c", (1, 0), (0, 0)))
+        right, turned = [names_of(Store(2, ((), row))) for row in (rows, rows[::-1])]
+        turning = forms.some_turning(right, right, order)
+        self.assertIs(forms.check_turning(right, right, turning), True)
+        self.assertIs(forms.check_turning(right, turned, turning), False)
+        wide, small = [names_of(Store(size, ((("a", ends, (0,) * size),), ()))) for size, ends in ((2, (1, 0)), (1, (0,)))]
+        turning = forms.some_turning(wide, wide, order)
+        self.assertIs(forms.check_turning(wide, wide, turning), True)
+        self.assertIs(forms.check_turning(wide, small, turning), False)
+        self.assertIs(forms.check_turning(small, wide, Turning((0,), (0,), (0,), (0,), (0,))), False)
         right = names_of(Store(2, ((), (("a", (1, 0), (3, 4)),))))
         other = names_of(Store(2, ((), (("a", (1, 0), (4, 3)),))))
         self.assertIs(forms.check_turning(right, other, forms.some_turning(right, other, (1, 0))), True)

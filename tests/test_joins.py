@@ -114,7 +114,7 @@ class RegroupedTest(unittest.TestCase):
         self.assertEqual(len(joins.regrouped(big_store(), every).offices[7]), 33)
 
     def test_wrong_groups(self):
-        wrong = not_tuples() + [(), (("a", "b", "c"),), (("a",), ("b",)), (("a",), ("b", "c", "a")), (("a", "a"), ("b", "c"))]
+        wrong = not_tuples() + [(), (("a", "b", "c"),), (("a",), ("b",)), (("a",), ("b", "c", "a")), (("a", "a"), ("b", "c")), (("a", "a"), ("b",))]
         wrong += [(("a",), (item, "b", "c")) for item in (Alike(), Odd(), Touchy())]
         wrong += [(("a",), ("b",), ("c",), ("c",)), ((), (), ()), (("a", "b"), ["c"]), [("a",), ("b", "c")]]
         wrong += [(("a", "b"), ("c", "d")), (("a", "b", "c"),) + ((),) * 8, (("a", "b"), "c"), ("a", "b", "c")]

@@ -215,6 +215,26 @@ class RingTest(unittest.TestCase):
                 self.assertIs(orders.check_ring(store, lots, state, ring[:1]), False)
         self.assertTrue({None, 2, 3, 4} <= sizes, sizes)
 
+    def test_rings_of_several_lengths(self):
+        """Each office turns a bit of its own and may ask for the bits of others, whatever these are."""
+        rng = random.Random(725)
+        sizes = {}
+        for _ in range(150):
+            pairs = [pair for pair in itertools.permutations(range(4), 2) if rng.randrange(3) == 0]
+            rows = []
+            for k in range(4):
+                row = [("abcd"[k], tuple(s ^ 1 << k for s in range(16)), (0,) * 16)]
+                row += [("abcd"[i] + "abcd"[j], tuple(range(16)), tuple(s >> j & 1 for s in range(16))) for i, j in pairs if i == k]
+                rows.append(tuple(row))
+            store, lots = Store(16, tuple(rows)), ((0,), (1,), (2,), (3,))
+            ring = orders.hanging_ring(store, lots, rng.randrange(16))
+            found = [row for many in range(2, 5) for row in itertools.permutations(range(4), many)
+                     if all(pair in pairs for pair in zip(row, row[1:] + row[:1]))]
+            self.assertEqual(ring and len(ring), len(found[0]) if found else None)
+            lengths = sorted({len(row) for row in found})
+            sizes[tuple(lengths)] = sizes.get(tuple(lengths), 0) + 1
+        self.assertTrue(all(sizes.get(key, 0) > 1 for key in ((), (2,), (2, 3), (3,))), sizes)
+
     def test_one_part_changed(self):
         rng = random.Random(723)
         verdicts = [0, 0]

@@ -301,6 +301,15 @@ class CheckSheetTest(unittest.TestCase):
         for value in not_tuples() + [RATES, told.lists, Uneven("a", "b", 0), (1, told.lists, told.worth)]:
             self.assertIs(sheets.check_sheet(BITS, RATES, value), False)
 
+    def test_scales_from_one_on(self):
+        """With a scale of 0 or below it no value is a sheet, although the equations hold."""
+        zeros = {name: (0, 0) for name in RATES}
+        for scale in (0, -1, -7):
+            lists = {name: tuple(scale * price for price in row) for name, row in sheets.sheet_of(BITS, RATES).lists.items()}
+            self.assertIs(sheets.check_sheet(BITS, RATES, Sheet(scale, lists, (5,) * 4)), False)
+        self.assertIs(sheets.check_sheet(BITS, {name: (0,) * 4 for name in RATES}, Sheet(0, zeros, (0,) * 4)), False)
+        self.assertIs(sheets.check_sheet(BITS, {name: (0,) * 4 for name in RATES}, Sheet(3, zeros, (0,) * 4)), True)
+
     def test_uneven(self):
         rng = random.Random(953)
         verdicts = [0, 0]

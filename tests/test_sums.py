@@ -17,7 +17,7 @@ from sharedunseen.turns import turning_store, turns
 from tests.sorts import TABLES, all_sorts, is_reversible, is_unseen, turned_store, whole_stores
 from tests.support import Alike, Odd, Touchy, big_store, done, error_of, errors_in_order, names_in, not_names, not_numbers
 from tests.support import not_tuples, refused, wrong_numbers
-from tests.test_groups import dihedral, mixed, orders, quaternions, ring
+from tests.test_groups import both, dihedral, mixed, orders, quaternions, ring
 from tests.test_homes import reach_by_words
 from tests.test_joins import GOOD, REFUSED
 from tests.test_shared import BOTH, ONEWAY, SEEN, others_of
@@ -179,6 +179,26 @@ class SumTest(unittest.TestCase):
         wrong += [(bent.run, bent.state, item) for item in not_numbers() + [6, 10 ** 20]]
         for value in wrong:
             self.assertIs(sums.check_sum(cards, Bent(*value)), False)
+
+    def test_each_share_once(self):
+        """Shares that leave some out are no sum, nor a table with further ones, although the operations do as is told."""
+        store = Store(2, ((("a", (1, 0), (0, 0)),), (("b", (1, 0), (0, 0)),)))
+        told = sums.sum_of(store)
+        still = {name: ((0, 0),) for name in "ab"}
+        self.assertIs(sums.check_sum(store, told), True)
+        self.assertIs(sums.check_sum(store, Sum((0, 0), (0, 0), told.table, still)), False)
+        self.assertIs(sums.check_sum(store, Sum((0, 0), told.shares, both(ring(2), ring(2)), told.adds)), False)
+        self.assertIs(sums.check_sum(store, Sum((0, 0), (1, 0), told.table, told.adds)), True)
+
+    def test_seen_stores(self):
+        """A store that is seen has no sum, even if its answers alone clash."""
+        for store in stores(1096, 15):
+            told = sums.sum_of(store)
+            rows = [tuple((name, ends, tuple(range(store.size))) for name, ends, _ in row) for row in store.offices]
+            seen = Store(store.size, tuple(rows))
+            if not is_unseen(seen):
+                self.assertIs(sums.check_sum(store, told), True)
+                self.assertIs(sums.check_sum(seen, told), False)
 
     def test_noncommutative(self):
         """A table that is not commutative is no table of a sum, whatever the operations do."""
