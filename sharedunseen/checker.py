@@ -109,7 +109,7 @@ def is_table(value):
 def carried_over(claim, store):
     """What a claim that holds tells of a store, or None."""
     first = claim[1]
-    if not isinstance(first, Store):
+    if not isinstance(first, Store) or not isinstance(store, Store):
         return None
     if is_same_store(store, first):
         return claim

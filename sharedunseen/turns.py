@@ -39,7 +39,8 @@ def turns(store, *, base=0):
     for row in list(rows.values()):
         for place, state in enumerate(row):
             places[state] = place
-    # The rows may stand for no turns. Then each operation turns a little, and all turns come of these.
+    # Say that the ways by which the rows were found turn nothing. Then a run turns as its operations do, one
+    # behind another; and as there are finitely many turns, what single operations turn comes of whole runs, too.
     found = {}
     for operation in operations_of(store):
         for row in list(rows.values()):

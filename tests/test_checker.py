@@ -236,6 +236,8 @@ class CarriedTest(unittest.TestCase):
                 told = checker.carried_over(good, store)
                 if word in ("matching", "table", "turning") or not isinstance(good[1], Store) or good[1].size != store.size:
                     self.assertIsNone(told, word)
+            for value in not_tuples() + [()]:
+                self.assertIsNone(checker.carried_over(good, value))
             if isinstance(good[1], Store):
                 self.assertIs(checker.carried_over(claim=good, store=Store(good[1].size, good[1].offices)), good)
         for word in ("explained", "marks", "names", "ring"):

@@ -225,6 +225,12 @@ class TurningStoreTest(unittest.TestCase):
             ("shares", refused("operations", (1,) * 13, (0,) * 40))])
         self.assertEqual(error_of(self, InvalidNumber, turns.turning_store, ring(2), (2,), None).word, "share")
         self.assertEqual(error_of(self, Refused, turns.turning_store, orders(3), None, None, many=None).word, "table")
+        for matching in matchings_of(FOUR):
+            call = (turns.turning_store, ring(4), (1,), (matching,))
+            if matching in matchings_of(ring(4)):
+                self.assertEqual(turns.turning_store(*call[1:]).size, 16 if matching[1] == 3 else 4)
+            else:
+                self.assertEqual(error_of(self, Refused, *call).word, "matchings")
 
     def test_edges(self):
         self.assertEqual(turns.turning_store(((0,),), (), ()), Store(1, ((), (), ())))
